@@ -1,0 +1,1 @@
+"""Wordways: ways through a web whose names spell a word."""
