@@ -1,9 +1,12 @@
-"""The interface: each function in its own file, with its arguments by their names."""
+"""The interface: each function and class in its own file, with its arguments by their names."""
 
 import importlib
 import inspect
 import unittest
 
+# A text tells an argument without a default, a tuple one with it; those behind
+# the star are told by their names alone.
+ENDS = ["start", "goal"]
 FUNCTIONS = {
     "words": {"formed": ["word"], "leaves_of": ["word"], "spells_none": ["word"]},
     "machines": {
@@ -11,7 +14,39 @@ FUNCTIONS = {
         "shortest_row": ["word"], "within": ["one", "two"], "parted": ["one", "two"],
     },
     "wordtexts": {"shown": ["word"], "read": ["text"]},
+    "ways": {
+        "spelled": ["web", "steps"], "way_fault": ["web", "word", "steps", "*", *ENDS],
+        "cut_fault": ["web", "word", "pairs", "*", *ENDS], "any_way": ["web", "word", "*", *ENDS],
+        "shortest_way": ["web", "word", "*", *ENDS], "levels": ["web", "word", "*", ("start", 0)],
+        "reached": ["web", "word", "*", ("start", 0)], "answers": ["web", "word"],
+    },
+    "trails": {"trail": ["web", "word", "*", *ENDS], "bare_way": ["web", "word", "*", *ENDS]},
+    "counts": {
+        "count_ways": ["web", "word", "*", *ENDS, ("length", 40)],
+        "way_at": ["web", "word", "number", "*", *ENDS, ("length", 40)],
+        "number_of": ["web", "word", "steps", "*", *ENDS], "count_all": ["web", "word", "*", *ENDS],
+    },
 }
+METHODS = {
+    ("webs", "Web"): {
+        "__init__": ["self", "*", ("most_places", 60), ("most_ties", 200)],
+        "place": ["self"], "tie": ["self", "start", "name", "goal"], "cut": ["self", "tie"], "drop": ["self", "place"],
+        "places": ["self"], "ties": ["self"], "ends_of": ["self", "tie"], "ties_at": ["self", "place"],
+        "mark": ["self"], "undo": ["self", "mark"], "__len__": ["self"],
+    },
+}
+CONSTANTS = {"webs": {"MOST_PLACES": 60, "MOST_TIES": 200}, "counts": {"MOST_STEPS": 40}}
+
+
+def arguments_of(function):
+    """The arguments of a function, told as above."""
+    told = []
+    for one in inspect.signature(function).parameters.values():
+        if one.kind is one.KEYWORD_ONLY and "*" not in told:
+            told.append("*")
+        assert one.kind in (one.KEYWORD_ONLY, one.POSITIONAL_OR_KEYWORD)
+        told.append(one.name if one.default is one.empty else (one.name, one.default))
+    return told
 
 
 class InterfaceTest(unittest.TestCase):
@@ -22,10 +57,21 @@ class InterfaceTest(unittest.TestCase):
                 with self.subTest(name):
                     function = getattr(module, name)
                     self.assertEqual(function.__module__, module.__name__)
-                    parameters = inspect.signature(function).parameters.values()
-                    self.assertEqual([one.name for one in parameters], arguments)
-                    for one in parameters:
-                        self.assertIs(one.kind, one.POSITIONAL_OR_KEYWORD)
+                    self.assertEqual(arguments_of(function), arguments)
+
+    def test_classes_and_their_own_methods(self):
+        for (file, name), methods in METHODS.items():
+            made = getattr(importlib.import_module("wordways." + file), name)
+            self.assertEqual(made.__module__, "wordways." + file)
+            for method, arguments in methods.items():
+                with self.subTest(method):
+                    self.assertEqual(arguments_of(vars(made)[method]), arguments)
+
+    def test_constants(self):
+        for file, constants in CONSTANTS.items():
+            module = importlib.import_module("wordways." + file)
+            for name, worth in constants.items():
+                self.assertEqual(getattr(module, name), worth)
 
 
 if __name__ == "__main__":

@@ -63,8 +63,10 @@ class Chooser:
         self.state = seed
 
     def below(self, many):
-        self.state = (self.state * 6364136223846793005 + 1442695040888963407) % 2 ** 64
-        return (self.state >> 33) % many
+        self.state = (self.state + 0x9E3779B97F4A7C15) % 2 ** 64
+        mixed = (self.state ^ self.state >> 30) * 0xBF58476D1CE4E5B9 % 2 ** 64
+        mixed = (mixed ^ mixed >> 27) * 0x94D049BB133111EB % 2 ** 64
+        return (mixed >> 33) % many
 
     def of(self, things):
         return things[self.below(len(things))]
