@@ -26,13 +26,25 @@ FUNCTIONS = {
         "way_at": ["web", "word", "number", "*", *ENDS, ("length", 40)],
         "number_of": ["web", "word", "steps", "*", *ENDS], "count_all": ["web", "word", "*", *ENDS],
     },
+    "texts": {"web_text": ["web"], "read_web": ["text"], "read_whole": ["text"]},
+    "replies": {"reply": ["web", "question"]},
+}
+MOSTS = ["self", "*", ("most_places", 60), ("most_ties", 200)]
+DEEDS = {"place": ["self"], "tie": ["self", "start", "name", "goal"], "cut": ["self", "tie"], "drop": ["self", "place"]}
+LISTS = {"places": ["self"], "ties": ["self"]}
+WEB = {
+    **DEEDS, **LISTS, "ends_of": ["self", "tie"], "ties_at": ["self", "place"], "mark": ["self"], "undo": ["self", "mark"],
 }
 METHODS = {
-    ("webs", "Web"): {
-        "__init__": ["self", "*", ("most_places", 60), ("most_ties", 200)],
-        "place": ["self"], "tie": ["self", "start", "name", "goal"], "cut": ["self", "tie"], "drop": ["self", "place"],
-        "places": ["self"], "ties": ["self"], "ends_of": ["self", "tie"], "ties_at": ["self", "place"],
-        "mark": ["self"], "undo": ["self", "mark"], "__len__": ["self"],
+    ("webs", "Web"): {**WEB, "__init__": MOSTS, "__len__": ["self"]},
+    ("hubs", "Hubs"): {
+        **DEEDS, **LISTS, "__init__": ["self"], "out_hubs": ["self", "place"], "in_hubs": ["self", "place"],
+        "reaches": ["self", *ENDS], "why": ["self", *ENDS],
+    },
+    ("store", "Store"): {
+        **WEB, "__init__": MOSTS, "do_all": ["self", "deeds"], "log": ["self"], "keep": ["self", "word"],
+        "let_go": ["self", "ask"], "answers_of": ["self", "ask"], "news": ["self", "ask"], "asks": ["self"],
+        "ask": ["self", "kind", "word", "*", *ENDS],
     },
 }
 CONSTANTS = {"webs": {"MOST_PLACES": 60, "MOST_TIES": 200}, "counts": {"MOST_STEPS": 40}}

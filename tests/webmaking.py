@@ -1,6 +1,9 @@
 """Webs for the tests, and a second, plain way to tell what leads where in them."""
 
+import copy
+
 from wordmaking import LEAVES, bare, rests_of_all, spells
+from wordways.errors import Full, NoMark, NoName, NoPlace, NoTie, Tied
 from wordways.webs import Web
 
 HUGE = 10 ** 59
@@ -100,3 +103,70 @@ def least_steps(web, word, start):
         level = behind
         length += 1
     return least
+
+
+class Model:
+    """A web as plainly as can be: what stands, and copies of all at each mark."""
+
+    def __init__(self, most_places, most_ties):
+        self.mosts = (most_places, most_ties)
+        self.now = {"places": [], "ties": [], "place": 0, "tie": 0}
+        self.marks = []
+
+    def do(self, deed, *worth):
+        return getattr(self, "do_" + deed)(*worth)
+
+    def do_place(self):
+        if len(self.now["places"]) == self.mosts[0]:
+            return Full
+        self.now["places"].append(self.now["place"])
+        self.now["place"] += 1
+        return self.now["place"] - 1
+
+    def do_tie(self, start, name, goal):
+        if start not in self.now["places"] or goal not in self.now["places"]:
+            return NoPlace
+        if name not in ("a", "b", "abcdefgh"):
+            return NoName
+        if len(self.now["ties"]) == self.mosts[1]:
+            return Full
+        self.now["ties"].append((self.now["tie"], start, name, goal))
+        self.now["tie"] += 1
+        return self.now["tie"] - 1
+
+    def do_cut(self, tie):
+        for one in self.now["ties"]:
+            if one[0] == tie:
+                self.now["ties"].remove(one)
+                return None
+        return NoTie
+
+    def do_drop(self, place):
+        if place not in self.now["places"]:
+            return NoPlace
+        if any(place in one[1::2] for one in self.now["ties"]):
+            return Tied
+        self.now["places"].remove(place)
+        return None
+
+    def do_mark(self):
+        self.marks.append(copy.deepcopy(self.now))
+        return len(self.marks) - 1
+
+    def do_undo(self, mark):
+        if mark not in range(len(self.marks)):
+            return NoMark
+        self.marks = self.marks[:mark + 1]
+        self.now = copy.deepcopy(self.marks[mark])
+        return None
+
+
+def chosen_deed(chooser, model):
+    """A deed of a web, done or refused: its word, and what is handed in."""
+    places = model.now["place"] + 1
+    ties = model.now["tie"] + 1
+    return chooser.of((
+        ("place",), ("place",), ("mark",),
+        ("undo", chooser.below(len(model.marks) + 1)), ("cut", chooser.below(ties)), ("drop", chooser.below(places)),
+        *[("tie", chooser.below(places), chooser.of(("a", "b", "abcdefgh", "A")), chooser.below(places))] * 3,
+    ))

@@ -75,18 +75,25 @@ class Web:
 
     def mark(self):
         """Set a mark and tell its number."""
-        self._marks.append((dict(self._places), dict(self._ties), self._next_place, self._next_tie))
+        self._marks.append(self.stand())
         return len(self._marks) - 1
 
     def undo(self, mark):
         """Put all back to where it was when the mark was set."""
         if not 0 <= mark < len(self._marks):
             raise NoMark(f"mark {mark} is not there")
-        places, ties, self._next_place, self._next_tie = self._marks[mark]
-        # The mark stays, so what it keeps must not be changed by later deeds.
-        self._places = dict(places)
-        self._ties = dict(ties)
+        self.put_back(self._marks[mark])
         del self._marks[mark + 1:]
+
+    def stand(self):
+        """Tell all that stands: places and ties as they are told, and the next numbers of both."""
+        return self.places(), self.ties(), self._next_place, self._next_tie
+
+    def put_back(self, stand):
+        """Let stand just what is told there; the marks stay."""
+        places, ties, self._next_place, self._next_tie = stand
+        self._places = {place: True for place in places}
+        self._ties = {tie: (start, name, goal) for tie, start, name, goal in ties}
 
     def _need_place(self, place):
         """Refuse a place that is not there."""
